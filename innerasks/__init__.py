@@ -1,0 +1,1 @@
+"""Questions within questions, answered by plans without dependence."""
