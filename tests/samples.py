@@ -1,4 +1,4 @@
-"""Values of every sort, for arguments that may be any value."""
+"""Values of every sort, for arguments that may be any value, and a schema."""
 
 from innerasks.schemas import Column, Schema, Table
 
@@ -12,3 +12,10 @@ NO_TEXTS = [
 ]
 TEXTS = ["", " ", "x", "t", "whole", "self", "select", "abcdefghijkl", "abcdefghijklm", "X", "x1", "x y", "\n", "é"]
 ANYTHING = NO_TEXTS + TEXTS
+
+# What questions are bound to; t has the places 0 to 2 in a row.
+ASKED = Schema(
+    Table("t", [Column("x", "whole"), Column("y", "whole"), Column("s", "text")]),
+    Table("u", [Column("x", "whole"), Column("z", "text")]),
+    Table("v", [Column("w", "whole")]),
+)
