@@ -8,7 +8,7 @@ WHOLE = "whole"
 TEXT = "text"
 TRUTH = "truth"
 # What fits whole and text.
-OPEN = "open"
+OPEN = "either"
 
 
 # Questions.
