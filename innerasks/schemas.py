@@ -188,7 +188,9 @@ class Schema:
         if not all([reference_fits(table, part, tables) for table in tables for part in table.references]):
             raise InvalidSchema("references")
         self._tables = tables
-        self._labels = tuple([table.name for table in tables])
+        # From names: an operator must not call `index`, which errors of the package hold, too.
+        self._by_name = {table.name: table for table in tables}
+        self._labels = tuple(self._by_name)
 
     @property
     def tables(self):
@@ -198,7 +200,7 @@ class Schema:
     def __getitem__(self, at):
         if at not in self._labels:
             raise UnknownTable(at)
-        return self._tables[self._labels.index(at)]
+        return self._by_name[at]
 
     def __iter__(self):
         raise TypeError("a schema is not iterated over: take its tables")
