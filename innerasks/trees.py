@@ -4,6 +4,9 @@ SUMS = ("+", "-", "*")
 COMPARISONS = ("=", "<>", "<", "<=", ">", ">=")
 AGGREGATES = ("count", "sum", "least", "most")
 LISTS = ("and", "or", "coalesce")
+# Their question stands at the end; in, any and all have a side ahead of it.
+ASKING = ("one", "exists", "in", "any", "all")
+SIDED = ("in", "any", "all")
 
 
 def is_pair(word):
@@ -25,6 +28,23 @@ def parts_of(tree):
     return [tree[1]] if word in ("not", "null", "in") else []
 
 
+def rebuilt(tree, parts):
+    """The expression or condition with other parts, in the order of parts_of."""
+    word = tree[0]
+    if is_pair(word):
+        return (word, parts[0], parts[1])
+    if word in LISTS:
+        return (word, tuple(parts))
+    if word == "case":
+        choices = [(parts[index], parts[index + 1]) for index in range(0, len(parts) - 1, 2)]
+        return (word, tuple(choices), parts[-1])
+    if word in ("any", "all"):
+        return (word, tree[1], parts[0], tree[3])
+    if word == "in":
+        return (word, parts[0], tree[2])
+    return (word, parts[0]) if word in ("not", "null") else tree
+
+
 def has_aggregate(tree):
     """Whether an aggregate stands in an expression or a condition, those in questions left out."""
     waiting = [tree]
@@ -34,3 +54,22 @@ def has_aggregate(tree):
             return True
         waiting.extend(parts_of(part))
     return False
+
+
+def has_question(tree):
+    """Whether a question stands in an expression or a condition, those in aggregates left out."""
+    waiting = [tree]
+    while len(waiting) > 0:
+        part = waiting.pop()
+        if part[0] in ASKING:
+            return True
+        waiting.extend(parts_of(part))
+    return False
+
+
+def set_aside(tree, found):
+    """The tree with ("told", index) for each of its aggregates, which are added to those found."""
+    if tree[0] not in AGGREGATES:
+        return rebuilt(tree, [set_aside(part, found) for part in parts_of(tree)])
+    found.append(tree)
+    return ("told", len(found) - 1)

@@ -27,7 +27,7 @@ BARRED = set(
 )
 NODES = (
     ast.Global, ast.AsyncFunctionDef, ast.Await, ast.AsyncFor, ast.AsyncWith, ast.Import, ast.Div, ast.MatMult,
-    ast.AnnAssign, ast.Yield, ast.YieldFrom, ast.Try, ast.With, ast.Match, ast.Lambda, ast.NamedExpr,
+    ast.AnnAssign, ast.YieldFrom, ast.Try, ast.With, ast.Match, ast.NamedExpr,
 )
 DOUBLE = {"__init__", "__eq__", "__len__", "__contains__", "__getitem__", "__iter__", "__repr__", "__str__"}
 TAKE_LISTS = {"any", "all", "min", "max", "sum", "sorted"}
@@ -45,6 +45,30 @@ def own_methods():
             if isinstance(node, ast.ClassDef):
                 found |= {part.name for part in node.body if isinstance(part, ast.FunctionDef)}
     return found
+
+
+def is_property(node):
+    return any(isinstance(part, ast.Name) and part.id == "property" for part in node.decorator_list)
+
+
+def functions_by_name():
+    found = {}
+    for _, tree in trees():
+        for node in ast.walk(tree):
+            if isinstance(node, ast.FunctionDef):
+                found.setdefault(node.name, []).append(node)
+    return found
+
+
+def attributes_stored():
+    return {node.attr for _, tree in trees() for node in ast.walk(tree)
+            if isinstance(node, ast.Attribute) and isinstance(node.ctx, ast.Store)}
+
+
+def called_names(node):
+    for part in ast.walk(node):
+        if isinstance(part, ast.Call):
+            yield part.func.id if isinstance(part.func, ast.Name) else part.func.attr
 
 
 def names_bound(tree):
@@ -180,6 +204,66 @@ class Language(unittest.TestCase):
         attributes = {node.attr for _, tree in trees() for node in ast.walk(tree)
                       if isinstance(node, ast.Attribute) and isinstance(node.ctx, ast.Store)}
         self.assertEqual(set(), attributes & (properties | methods))
+
+    def test_operators_and_properties_call_nothing_that_is_held(self):
+        found = functions_by_name()
+        stored = attributes_stored()
+        waiting = [node for nodes in found.values() for node in nodes
+                   if is_property(node) or node.name.startswith("__") and node.name != "__init__"]
+        seen = set()
+        while waiting:
+            node = waiting.pop()
+            if id(node) in seen:
+                continue
+            seen.add(id(node))
+            for part in ast.walk(node):
+                if isinstance(part, ast.Attribute):
+                    self.assertIsInstance(part.ctx, ast.Load, (node.name, part.lineno))
+                self.assertNotIsInstance(part, (ast.AugAssign, ast.Delete, ast.Lambda), (node.name, node.lineno))
+                if isinstance(part, ast.Call) and isinstance(part.func, ast.Attribute):
+                    self.assertNotIn(part.func.attr, stored, (node.name, part.lineno))
+                    self.assertNotIn(part.func.attr, ("append", "extend", "pop", "setdefault", "update", "insert"))
+            waiting += [other for name in called_names(node) for other in found.get(name, [])]
+
+    def test_generators(self):
+        found = functions_by_name()
+        generators = {name for name, nodes in found.items() for node in nodes
+                      if any(isinstance(part, ast.Yield) for part in ast.walk(node))}
+        self.assertLessEqual({"walk", "least_keys"}, generators)
+        self.assertEqual(set(), generators & attributes_stored())
+        for name in generators:
+            for node in found[name]:
+                self.assertTrue(any(isinstance(part, ast.Yield) for part in ast.walk(node)), name)
+                self.assertEqual([], node.decorator_list)
+        iterated = set()
+        for path, tree in trees():
+            for node in ast.walk(tree):
+                if isinstance(node, (ast.For, ast.comprehension)):
+                    iterated.add(id(node.iter))
+            for node in ast.walk(tree):
+                if isinstance(node, ast.Call) and isinstance(node.func, (ast.Name, ast.Attribute)):
+                    name = node.func.id if isinstance(node.func, ast.Name) else node.func.attr
+                    if name in generators:
+                        self.assertIn(id(node), iterated, (path, node.lineno))
+
+    def test_reversed_and_stars(self):
+        for path, tree in trees():
+            for node in ast.walk(tree):
+                if isinstance(node, ast.Call) and isinstance(node.func, ast.Name) and node.func.id == "reversed":
+                    part = node.args[0]
+                    self.assertIsInstance(part, ast.Call, (path, node.lineno))
+                    self.assertIn(part.func.id, ("list", "tuple", "sorted", "range"), (path, node.lineno))
+                if isinstance(node, ast.Starred):
+                    self.assertIsInstance(node.value, ast.Name, (path, node.lineno))
+
+    def test_every_function_of_the_package_is_used(self):
+        used = {node.attr if isinstance(node, ast.Attribute) else node.id
+                for _, tree in trees() for node in ast.walk(tree) if isinstance(node, (ast.Attribute, ast.Name))}
+        told = {"read_question", "write_question", "bind", "answer", "run", "compiled", "flat", "facts", "place_of",
+                "has_single_match", "replaced", "first_break", "follows", "least_keys", "behind", "at", "put", "renamed"}
+        for name, nodes in functions_by_name().items():
+            if not name.startswith("__") and not any(is_property(node) for node in nodes):
+                self.assertIn(name, used | told)
 
 
 if __name__ == "__main__":
