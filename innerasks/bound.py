@@ -1,6 +1,6 @@
 """Columns of a domain that conditions bind to columns of a plan: their values can be taken from there."""
 
-from innerasks.forms import columns_in, conjuncts, joined
+from innerasks.forms import conjuncts, divided, joined
 from innerasks.pairplans import Depend, Join
 from innerasks.plans import Filter
 
@@ -32,11 +32,7 @@ def bound_near(plan, domain):
 
 def parted_join(plan, domain):
     """An inner join whose condition stands above it, as far as it uses columns of the domain."""
-    stays = []
-    leaves = []
-    for part in conjuncts(plan.condition):
-        is_used = any([column in domain.held for column in columns_in(part)])
-        (leaves if is_used else stays).append(part)
+    stays, leaves = divided(plan.condition, domain.held)
     return Near(Join("inner", plan.left, plan.right, joined(*stays)), joined(*leaves), {})
 
 
@@ -49,11 +45,7 @@ def sunk(plan):
         return plan
     join = plan.plan
     others = [column for column in join.right.columns + (join.column,) if column not in join.left.columns]
-    stays = []
-    sinks = []
-    for part in conjuncts(plan.condition):
-        is_used = any([column in others for column in columns_in(part)])
-        (stays if is_used else sinks).append(part)
+    sinks, stays = divided(plan.condition, others)
     if len(sinks) == 0:
         return plan
     below = join.remade([Filter(join.left, joined(*sinks)), join.right], {}, {})

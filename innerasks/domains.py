@@ -94,11 +94,11 @@ def truths_used(plan, columns):
 def linked(copied, numbers, *conditions):
     """The and of conditions, and of a comparison of each column with its copy; numbers is a dict to these."""
     told = list(conditions)
-    for column, copy in numbers.items():
-        if copy in copied.truths:
-            told.append(("is", told_of_truth(column), told_of_truth(copy)))
+    for column, other in numbers.items():
+        if other in copied.truths:
+            told.append(("is", told_of_truth(column), told_of_truth(other)))
         else:
-            told.append(("is", ("column", column), ("column", copy)))
+            told.append(("is", ("column", column), ("column", other)))
     return joined(*told)
 
 

@@ -164,3 +164,15 @@ def joined(*conditions):
     """The and of the parts of conditions; one part alone stands without and [52]."""
     told = tuple([part for condition in conditions for part in conjuncts(condition)])
     return told[0] if len(told) == 1 else ("and", told)
+
+
+def divided(condition, columns):
+    """The parts of a condition that use none of these columns, and those that do."""
+    stays = []
+    leaves = []
+    for part in conjuncts(condition):
+        if any([column in columns for column in columns_in(part)]):
+            leaves.append(part)
+        else:
+            stays.append(part)
+    return stays, leaves

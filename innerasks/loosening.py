@@ -1,7 +1,7 @@
 """Dependent joins whose right part depends on left by conditions alone: these can stand in the join."""
 
 from innerasks.domains import surely
-from innerasks.forms import columns_in, conjuncts, joined
+from innerasks.forms import divided, joined
 from innerasks.pairplans import Depend, Join
 from innerasks.plans import Compute, Distinct, Filter, Keep
 
@@ -29,18 +29,6 @@ def loosened(plan, columns, is_once):
         left, pulled = loosened(plan.left, columns, is_once)
         return plan.remade([left, plan.right], {}, {}), pulled
     return plan, []
-
-
-def divided(condition, columns):
-    """The parts of a condition that use none of these columns, and those that do."""
-    stays = []
-    leaves = []
-    for part in conjuncts(condition):
-        if any([column in columns for column in columns_in(part)]):
-            leaves.append(part)
-        else:
-            stays.append(part)
-    return stays, leaves
 
 
 def loosened_condition(kind, condition, pulled):

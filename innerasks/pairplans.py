@@ -112,7 +112,6 @@ class Join(Plan):
         check(are_apart(left.columns, right.columns) and column not in left.columns, "columns")
         check(is_condition(condition), "expression")
         check(are_apart(left.free, right.columns), "free")
-        check(self.KNOWS_LEFT or are_apart(right.free, left.columns), "free")
         self._kind = kind
         self._condition = condition
         self._column = column

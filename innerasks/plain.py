@@ -74,10 +74,9 @@ def rows_asked(around, question):
     _, is_all, one, other = question
     left = rows_asked(around, one)
     right = rows_asked(around, other)
-    if not is_all and word != "union":
-        left = once(left)
-    rows = combined(word, left, right)
-    return rows if is_all else once(rows)
+    if is_all:
+        return combined(word, left, right)
+    return once(combined(word, once(left), right))
 
 
 def rows_selected(around, question):

@@ -151,6 +151,19 @@ class Sources(unittest.TestCase):
         self.assertEqual([(None, 1, "a")],
                          ask("select * from v full join u on w = x", Database(ASKED, {"u": [(1, "a")]})))
 
+    def test_questions_in_outer_joins(self):
+        for question, rows in [
+            ("(select x, z from u where x = 2)", [(None, None, None), (1, None, None), (2, 2, None)]),
+            ("(select x, z from u order by x desc first 1)", [(None, None, None), (1, None, None), (2, 2, None)]),
+            ("((select x, z from u where x = 2) union all (select x, s from t where x = 5 order by x))",
+             [(None, None, None), (1, None, None), (2, 2, None)]),
+        ]:
+            self.assertEqual(rows, ask(f"select w, a.x, z from v left join {question} as a on a.x = w"))
+            self.assertEqual([row[1:] + row[:1] for row in rows],
+                             ask(f"select a.x, z, w from {question} as a full join v on a.x = w"))
+            self.assertEqual([(w, 1) for w, _, _ in rows], ask(
+                f"select w, count(*) as n from (v left join {question} as a on a.x = w) left join t on z = 'q' and t.x = w group by w"))
+
     def test_joins_of_joins(self):
         self.assertEqual([(None, None, None), (1, "a", 1), (1, "b", 1), (2, None, 2)],
                          ask("select a.w, z, b.w as k from (v as a left join u on a.w = x) left join v as b on b.w = x"))
@@ -208,6 +221,12 @@ class Correlated(unittest.TestCase):
     def test_groups_are_seen_within(self):
         self.assertEqual([(None, 1), (1, 3), (2, 2)], ask(
             "select x, one (select count(*) as n from v where w = u.x) + count(*) as k from u group by x"))
+
+    def test_columns_of_the_select_around_in_groups(self):
+        self.assertEqual([(None, None), (1, 3), (2, 3)],
+                         ask("select w, one (select v.w + count(*) as n from u where x = v.w) as k from v"))
+        self.assertEqual([(None, None), (1, 2), (2, None)],
+                         ask("select w, one (select count(*) as n from u group by x having x = v.w and v.w < 2) as k from v"))
 
     def test_aggregates_of_the_select_around(self):
         # An aggregate belongs to the select in which it stands, whatever it uses.

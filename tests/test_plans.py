@@ -153,6 +153,18 @@ class Nodes(unittest.TestCase):
             self.assertEqual(((4, tree),), Compute(T, [(4, tree)]).made)
             self.assertEqual(("not", tree), Join("semi", T, U, ("not", tree)).condition)
 
+    def test_each_class_has_its_own_properties(self):
+        for node, names in [
+            (Plan, ["columns", "parts", "free", "walk", "at", "put", "renamed", "__len__", "__eq__"]), (Rows, ["columns", "rows"]),
+            (Scan, ["table", "columns"]), (Filter, ["plan", "condition"]), (Compute, ["plan", "made"]), (Keep, ["plan", "columns"]),
+            (Distinct, ["plan"]), (Number, ["plan", "column", "by"]), (Group, ["plan", "by", "made"]), (First, ["plan", "order", "n", "by"]),
+            *[(pair, ["one", "other", "columns"]) for pair in (Union, Except, Intersect)],
+            *[(join, ["kind", "left", "right", "condition", "column"]) for join in (Join, Depend)],
+        ]:
+            self.assertLessEqual(set(names) | {"__init__"}, set(vars(node)), node)
+            self.assertTrue(issubclass(node, Plan))
+        self.assertEqual((Join,), Depend.__bases__)
+
     def test_lists_that_are_changed_afterwards(self):
         columns, rows, made, order, by = [1, 2], [(1, 2)], [(4, column(1))], [(1, True)], [1]
         plans = [

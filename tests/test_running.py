@@ -268,6 +268,12 @@ class Depends(unittest.TestCase):
 
 
 class Errors(unittest.TestCase):
+    def test_one_free_column(self):
+        for plan in (Filter(T, equal(1, 9)), Depend("semi", T, Filter(U, equal(4, 9)), ALWAYS)):
+            with self.assertRaises(FreeColumns) as caught:
+                run(BASE, plan)
+            self.assertEqual((9,), caught.exception.value)
+
     def test_free_columns(self):
         plan = Filter(Scan("none", (1,)), ("and", (equal(1, 9), ("truth", 7), equal(1, 8))))
         for params in (None, {"p": 1}):
