@@ -2,7 +2,6 @@
 
 from innerasks.giving import given
 from innerasks.known import Known, filled, linked_to, reached
-from innerasks.pairplans import Depend
 from innerasks.possible import Clues, truths_possible
 
 
@@ -14,9 +13,7 @@ def depending(plan, known):
 
 
 def foreign_columns(plan):
-    """The columns of left that are free in the right part of a Depend."""
-    if not isinstance(plan, Depend):
-        return ()
+    """The columns of left that are free in right: only a Depend can have such."""
     return tuple([column for column in plan.right.free if column in plan.left.columns])
 
 

@@ -50,14 +50,14 @@ def renumbered_known(known, numbers):
 
 
 def cut(known, columns):
-    """The same without what does not follow from some columns."""
+    """The same without what does not follow from some columns; other marks take the place of its marks."""
     found = reached(known, columns)
     links = []
     for needs, froms, column in known.links:
         if column in found and are_there(needs, found) and are_there(froms, found):
             links.append((needs, froms, column))
     never = {column: True for column in known.never if column in found}
-    return Known(tuple([mark for mark in known.marks if mark in found]), never, links, known.limit, known.quiet)
+    return Known((), never, links, known.limit, known.quiet)
 
 
 def filled(known, foreign):

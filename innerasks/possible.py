@@ -53,17 +53,18 @@ def worths_possible(clues, tree):
 def worths_of_case(clues, tree):
     """What a case can be: what its branches can be together that can be taken."""
     taken = []
-    comes_on = True
     for condition, e in tree[1]:
-        if not comes_on:
-            break
         truths = truths_possible(clues, condition)
         if True in truths:
             taken.append(worths_possible(clues, e))
-        comes_on = truths != (True,)
-    if comes_on:
-        taken.append(worths_possible(clues, tree[2]))
-    return (any([can_be_null for can_be_null, _ in taken]), any([can_be_solid for _, can_be_solid in taken]))
+        if truths == (True,):
+            return together(taken)
+    return together(taken + [worths_possible(clues, tree[2])])
+
+
+def together(worths):
+    """What something can be that is one of these."""
+    return (any([can_be_null for can_be_null, _ in worths]), any([can_be_solid for _, can_be_solid in worths]))
 
 
 def truths_possible(clues, tree):

@@ -15,6 +15,7 @@ from innerasks.reader import read_question
 from innerasks.running import run
 from asking import BASE, EMPTY, bound, outcome
 from drawn_questions import Drawer, drawn_database
+from plan_kinds import plan_kinds
 from samples import ASKED
 
 INNER = [
@@ -45,6 +46,8 @@ class Compared(unittest.TestCase):
         self.assertEqual((), told.free)
         self.assertEqual(plan.columns, told.columns)
         self.assertTrue(is_flat(told))
+        self.assertEqual(plan_kinds(plan, {}), plan_kinds(told, {}))
+        self.assertEqual({"value"}, set(plan_kinds(plan, {}).values()) or {"value"})
         outcomes = []
         for base in bases:
             expected = outcome(lambda: answer(base, question, params=params))

@@ -97,6 +97,12 @@ class OneRow(Told):
             (("=", ("coalesce", (column(1), value(0))), value(3)), (2,)), (("=", ("case", ((solid(1), value(1)),), value(None)), value(1)), (1, 2)),
             (("=", ("case", ((("null", column(1)), value(1)),), column(3)), value(1)), (2,)), (("=", ("param", "p"), column(1)), (1, 2)),
             (("is", ("param", "p"), column(1)), (2,)), (("=", column(9), column(1)), (1, 2)), (("is", column(9), column(1)), (2,)),
+            # Of a case the branches up to the first one that is taken for sure.
+            (("null", ("case", ((ALWAYS, column(1)), (equal(1, 2), value(1))), value(2))), (2,)),
+            (("is", ("case", ((NEVER, value(1)), (ALWAYS, column(1)), (ALWAYS, value(1))), value(1)), value(1)), (1, 2)),
+            (("is", ("case", ((ALWAYS, column(1)), (equal(2, 2), value(1))), value(1)), value(1)), (1, 2)),
+            (("is", ("case", ((equal(2, 2), column(1)), (ALWAYS, column(3))), value(1)), value(1)), (2,)),
+            (("is", ("case", ((("null", column(2)), value(1)), (solid(2), column(3))), value(1)), value(1)), (2, 3)),
             # What is never null in the part is known.
             (("or", (("null", column(2)), solid(1))), (1, 2)), (("or", (("is", column(2), column(1)), NEVER)), (1, 2)),
             # Nothing makes it True: then all that is told of any row is right.
@@ -279,6 +285,17 @@ class Joins(Told):
         self.told(Join("semi", Rows((1,), [(1,), (2,)]), V, NEVER), [(1,)], (1,), 2)
         self.told(Join("semi", V, Compute(U, [(7, equal(4, 5))]), ("truth", 7)), [], ())
 
+    def test_semi_and_numbers_that_are_used_again(self):
+        # Nothing is kept of the columns of right, whose numbers are free then.
+        plan = Join("semi", Filter(T, solid(1)), U, ("and", (equal(1, 4), ("=", column(5), value("a")))))
+        self.told(Compute(plan, [(4, ("param", "p")), (5, ("null", column(3)))]), [(1,)], (1, 2, 5),
+                  follows={(): (4,), (3,): (3, 4, 5), (4,): (4,)})
+        self.told(Compute(plan, [(4, ("+", column(3), value(1))), (5, column(3))]), [(1,)], (1, 2), follows={(): (), (1,): (1, 2, 3, 4, 5)})
+        self.told(Compute(Join("semi", V, U, equal(6, 4)), [(4, ("*", column(6), column(6))), (5, value(1))]),
+                  follows={(): (5,), (4,): (4, 5)})
+        self.told(Number(Join("semi", V, U, equal(6, 4)), 4, (6,)), follows={(6,): (6,), (4,): (4,)})
+        self.told(Number(Join("anti", V, U, equal(6, 4)), 4, (6,)), follows={(6,): (6,), (4,): (4,)})
+
     def test_anti(self):
         self.told(Join("anti", T, U, ("and", (equal(1, 4), ("=", column(3), value("a"))))), [], (2,), None, True, {(): ()})
         self.told(Join("anti", U, V, equal(4, 6)), [(4,)], (4,))
@@ -398,6 +415,16 @@ class Depends(Told):
         self.told(Depend("inner", T, right, ALWAYS), follows={(5,): (5,), (1, 5): (1, 5, 7), (1, 4): (1, 4, 5, 7)})
         self.told(Depend("left", T, right, ALWAYS), follows={(1, 5): (1, 5), (1, 4): (1, 4, 5), (4,): (4,)})
         self.told(Filter(Depend("left", T, right, ALWAYS), solid(5)), follows={(1, 5): (1, 5, 7), (1, 4): (1, 4, 5, 7), (5,): (5,)})
+
+    def test_free_columns_are_not_looked_at(self):
+        left = Compute(V, [(7, ("=", column(6), value(1)))])
+        self.told(Depend("inner", left, Filter(U, ("truth", 7)), ALWAYS), [], (4,), follows={(): ()})
+        self.told(Depend("inner", left, Filter(U, ("=", column(6), value(1))), ALWAYS), [], (4,), follows={(): ()})
+        self.told(Depend("inner", left, Filter(U, ("not", ("null", column(6)))), ALWAYS), [], (4,), follows={(): ()})
+        self.told(Filter(U, ("and", (("truth", 9), ("=", column(8), value(1)), ("is", column(5), column(8))))), [(4,)], (4,),
+                  follows={(): (5,)})
+        self.told(Compute(U, [(7, column(8)), (9, ("truth", 10)), (11, ("+", column(4), column(8)))]), [(4,)], (4,),
+                  follows={(): (7, 9), (4,): (4, 5, 7, 9, 11)})
 
     def test_columns_of_two_lefts(self):
         inner = Depend("inner", U, Filter(V, ("=", column(6), ("+", column(4), column(1)))), ALWAYS)

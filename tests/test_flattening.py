@@ -12,6 +12,7 @@ from innerasks.running import run
 from asking import BASE, EMPTY, outcome
 from drawn_plans import PlanDrawer, around
 from drawn_questions import drawn_database, drawn_value
+from plan_kinds import plan_kinds
 from samples import ASKED
 
 ALWAYS, NEVER = ("and", ()), ("or", ())
@@ -68,15 +69,20 @@ class Compared(unittest.TestCase):
 
     def compare(self, plan, bases):
         told = flat(plan)
-        self.assertTrue(is_flat(told))
-        self.assertEqual(plan.columns, told.columns)
-        self.assertLessEqual(set(told.free), set(plan.free))
+        self.check_flat(plan, told, {})
         outcomes = []
         for base in bases:
             expected = outcome(lambda: run(base, plan))
             self.assertEqual(expected, outcome(lambda: run(base, told)), base.rows)
             outcomes.append(expected)
         return outcomes
+
+
+    def check_flat(self, plan, told, known):
+        self.assertTrue(is_flat(told))
+        self.assertEqual(plan.columns, told.columns)
+        self.assertLessEqual(set(told.free), set(plan.free))
+        self.assertEqual(plan_kinds(plan, known), plan_kinds(told, known))
 
 
 class Written(Compared):
@@ -113,6 +119,16 @@ class Written(Compared):
                     with self.subTest(left=left, right=right, kind=kind):
                         self.compare(depend(kind, left, right), self.bases((2, 4)))
 
+    def test_values_of_left_that_only_a_join_makes(self):
+        # Nulls that an outer join adds are values that the right part is run for.
+        count = Group(Filter(U, ("or", (equal(4, 1), ("null", column(1))))), (), [(30, ("count", None, False))])
+        some = Filter(U, ("or", (equal(4, 1), ("null", column(1)))))
+        for left in (Join("full", T, Scan("v", (20,)), equal(1, 20)), Join("left", Scan("v", (20,)), T, equal(1, 20)),
+                     Join("full", Keep(T, (1,)), Scan("v", (20,)), NEVER), Join("single", Scan("v", (20,)), Keep(T, (1,)), NEVER)):
+            for right in (count, some, Distinct(Keep(some, (5,))), First(some, (), 1), Union(some, U, (31, 32))):
+                for kind in KINDS + ("mark",):
+                    self.compare(depend(kind, left, right), self.bases())
+
     def test_above(self):
         plan = depend("left", T, CORRELATED)
         for told in [First(plan, [(2, True), (5, False)], 3), First(plan, [(4, True)], 1, (1,)), Number(plan, 20, (3,)), Number(plan, 20),
@@ -126,10 +142,17 @@ class Written(Compared):
         bad = Join("single", Rows((6,), [(1,)]), Rows((7,), [(1,), (2,)]), ALWAYS)
         some = Join("single", Rows((6,), [(1,)]), Filter(Rows((7,), [(1,), (2,)]), equal(1, 1)), ALWAYS)
         for right in (bad, some, Depend("single", Rows((6,), [(1,)]), U, ALWAYS), Union(Keep(bad, (6,)), V, (7,)), Group(bad, (), ()),
-                      Join("left", V.renamed({6: 8}), bad, NEVER), Filter(bad, equal(6, 1)), Join("semi", U, bad, NEVER)):
+                      Join("left", V.renamed({6: 8}), bad, NEVER), Filter(bad, equal(6, 1)), Join("semi", U, bad, NEVER),
+                      *[Join("single", Rows((7,), [(1,)]), below, ALWAYS) for below in (
+                          V, First(V, (), 2), First(V, (), 1), First(V, (), 1, (6,)), First(V, (), 0), First(V, (), None), Group(V, (6,), ()),
+                          Group(V, (), ()), Rows((8,), [(1,), (2,)]), Rows((8,), [(1,)]), Distinct(Keep(Filter(V, ALWAYS), (6,))),
+                          Join("inner", V, V.renamed({6: 8}), ALWAYS), Union(V, V, (8,)))]):
             for kind in KINDS + ("mark",):
                 for left in (Rows((1,), ()), Rows((1,), [(1,)]), Rows((1,), [(None,)]), Filter(Rows((1,), [(1,), (2,)]), equal(1, 1)),
-                             Filter(Rows((1,), [(1,), (2,)]), NEVER), Keep(T, (1,))):
+                             Filter(Rows((1,), [(1,), (2,)]), NEVER), Keep(T, (1,)), Group(Rows((20,), ()), (), [(1, ("sum", column(20)))]),
+                             First(Rows((1,), [(1,)]), (), 0), Join("semi", Rows((1,), [(1,)]), Rows((20,), ()), ALWAYS),
+                             Join("inner", Rows((1,), [(1,)]), Rows((20,), ()), ALWAYS), Join("left", Rows((20,), [(1,)]), Rows((1,), ()), ALWAYS),
+                             Except(Rows((1,), [(1,)]), Rows((1,), [(1,)]), (1,)), Union(Rows((1,), ()), Rows((1,), [(1,)]), (1,))):
                     self.compare(depend(kind, left, right), [BASE, EMPTY])
         self.assertEqual([], run(BASE, flat(depend("inner", Rows((1,), ()), bad))))
         self.assertEqual("several", outcome(lambda: run(BASE, flat(depend("inner", Rows((1,), [(1,)]), bad)))))
@@ -191,6 +214,12 @@ class Written(Compared):
             for kind in KINDS + ("mark",):
                 self.compare(depend(kind, plan, right), self.bases())
 
+    def test_a_number_of_one_part_that_the_other_has_from_outside(self):
+        for node in (Union, Except, Intersect):
+            for one, other in ((Scan("v", (1,)), Keep(Filter(U, equal(4, 1)), (4,))), (Keep(Filter(U, equal(4, 1)), (4,)), Scan("v", (1,)))):
+                for kind in KINDS + ("mark",):
+                    self.compare(depend(kind, Keep(T, (1, 3)), node(one, other, (9,))), self.bases())
+
     def test_the_plan_is_not_changed(self):
         plan = depend("left", T, CORRELATED)
         before = plan.renamed({})
@@ -215,9 +244,7 @@ class Drawn(Compared):
                 continue
             dependent += 1
             told = flat(plan)
-            self.assertTrue(is_flat(told))
-            self.assertEqual(plan.columns, told.columns)
-            self.assertLessEqual(set(told.free), set(plan.free))
+            self.check_flat(plan, told, {column: "truth" if kind == "truth" else "value" for column, kind in known.items()})
             maker = random.Random(seed)
             for _ in range(3):
                 base = drawn_database(maker)
