@@ -1,6 +1,7 @@
 """The plan of a bound question [45]."""
 
-from innerasks.forms import ALWAYS
+from innerasks.failing import may_fail
+from innerasks.forms import ALWAYS, NEVER
 from innerasks.lotplans import First, Group, Number
 from innerasks.pairplans import Depend, Except, Intersect, Join, Union
 from innerasks.plans import Compute, Distinct, Filter, Keep, Scan
@@ -134,22 +135,43 @@ def plan_of_join(schema, supply, source, levels, row):
 def plan_of_asking_join(schema, stage, kind, one, other, condition):
     """The plan of a join with questions in its condition: they are asked for all pairs."""
     columns = one.columns + other.columns
-    if kind == "inner":
-        stage.below = Join("inner", one, other, ALWAYS)
-        filter_stage(schema, stage, condition)
-        return Keep(stage.below, columns)
-    # The rows of each side are numbered: a row without a pair is found by its number.
-    near, far, met, met_too = stage.supply.several(4)
-    stage.below = Join("inner", Number(one, met), Number(other, met_too), ALWAYS)
-    filter_stage(schema, stage, condition)
-    is_near = ("=", ("column", near), ("column", met))
+    if kind == "full":
+        return Keep(plan_of_full_join(schema, stage, one, other, condition), columns)
+    if kind == "left" and not may_fail(other):
+        pairs = fellows(schema, stage, other, condition)
+        return Depend("left", one, Keep(pairs, other.columns), ALWAYS)
+    if kind == "left" and len(other) < len(one):
+        # A Depend does not run its right part if left has no row; but it must be run, for it may be Several.
+        watched = Join("anti", one, Keep(other, ()), NEVER)
+        pairs = fellows(schema, stage, other, condition)
+        return Depend("left", watched, Keep(pairs, other.columns), ALWAYS)
     if kind == "left":
-        pairs = Keep(stage.below, (met,) + other.columns)
-        return Keep(Join("left", Number(one, near), pairs, is_near), columns)
-    pairs = Keep(stage.below, (met, met_too))
-    half = Join("left", Number(one, near), pairs, is_near)
-    is_far = ("=", ("column", met_too), ("column", far))
-    return Keep(Join("full", half, Number(other, far), is_far), columns)
+        near, met = stage.supply.several(2)
+        pairs = fellows(schema, stage, Join("inner", Number(one, met), other, ALWAYS), condition)
+        return Keep(Join("left", Number(one, near), Keep(pairs, (met,) + other.columns), same(near, met)), columns)
+    return Keep(fellows(schema, stage, Join("inner", one, other, ALWAYS), condition), columns)
+
+
+def fellows(schema, stage, below, condition):
+    """The rows of a plan for which a condition with questions is True."""
+    stage.below = below
+    filter_stage(schema, stage, condition)
+    return stage.below
+
+
+def plan_of_full_join(schema, stage, one, other, condition):
+    """The plan of a full join with questions in its condition, with more columns: the smaller side stands in it twice."""
+    met, met_too = stage.supply.several(2)
+    if len(one) < len(other):
+        half = Depend("left", other, Keep(fellows(schema, stage, Number(one, met), condition), (met,)), ALWAYS)
+        return Join("full", Number(one, met_too), half, same(met_too, met))
+    half = Depend("left", one, Keep(fellows(schema, stage, Number(other, met), condition), (met,)), ALWAYS)
+    return Join("full", half, Number(other, met_too), same(met, met_too))
+
+
+def same(column, other):
+    """The condition that two numbers of rows are the same."""
+    return ("=", ("column", column), ("column", other))
 
 
 # Expressions and conditions.

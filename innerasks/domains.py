@@ -3,8 +3,8 @@
 from innerasks.failing import may_fail
 from innerasks.forms import joined
 from innerasks.lotplans import First, Group, Number
-from innerasks.pairplans import Join
-from innerasks.plans import Compute, Distinct, Filter, Keep
+from innerasks.pairplans import Join, Union
+from innerasks.plans import Compute, Distinct, Filter, Keep, Rows
 from innerasks.trees import parts_of
 
 
@@ -22,7 +22,14 @@ class Domain:
 
     def plan_of(self):
         """The plan that has each choice of values once."""
-        return Distinct(kept(stripped(self.source, self.held, self.is_loose), self.held))
+        return Distinct(kept(self.source_of(self.held), self.held))
+
+    def source_of(self, columns):
+        """A small plan that has the values of some of its columns."""
+        small = stripped(self.source, columns, self.is_loose)
+        if not self.is_loose or any([column in self.truths for column in columns]):
+            return small
+        return with_nulls(small, columns)
 
     def narrowed(self, columns):
         """The domain of some of its columns."""
@@ -33,8 +40,7 @@ class Domain:
         numbers = {column: supply.fresh() for column in columns}
         held = tuple([numbers[column] for column in columns])
         truths = [numbers[column] for column in columns if column in self.truths]
-        source = stripped(self.source, columns, self.is_loose)
-        return Domain(source.renamed(numbers), held, truths, self.is_loose), numbers
+        return Domain(self.source_of(columns).renamed(numbers), held, truths, self.is_loose), numbers
 
 
 def kept(plan, columns):
@@ -70,6 +76,17 @@ def smaller_parts(plan, is_loose):
         return [plan.left, plan.right] if is_loose else []
     is_whole_left = plan.kind in ("mark", "single", "left")
     return [plan.left] if is_whole_left or is_loose and plan.kind != "full" else []
+
+
+def with_nulls(plan, columns):
+    """A smaller plan that has the values of columns of one side of an outer join, and nulls; or the plan itself."""
+    if not isinstance(plan, Join) or plan.kind not in ("left", "single", "full"):
+        return plan
+    for part in plan.parts:
+        if has_all(part, columns):
+            small = kept(with_nulls(stripped(part, columns, True), columns), columns)
+            return Union(small, Rows(columns, [(None,) * len(columns)]), columns)
+    return plan
 
 
 def has_all(plan, columns):

@@ -7,6 +7,8 @@ from innerasks.words import is_name
 MOST_NUMBER = 9999
 # The condition that is always True.
 ALWAYS = ("and", ())
+# The condition that never is.
+NEVER = ("or", ())
 
 
 # Numbers of columns.

@@ -6,6 +6,7 @@ import unittest
 
 from innerasks.binding import bind
 from innerasks.compiling import compiled
+from innerasks.databases import Database
 
 from innerasks.errors import BadParameter
 from innerasks.flattening import flat, is_flat
@@ -174,6 +175,42 @@ class Written(Compared):
         for plan in (compiled(ASKED, question), flat(compiled(ASKED, question))):
             with self.assertRaises(BadParameter):
                 run(BASE, plan)
+
+    def test_outer_joins_of_outer_joins(self):
+        def chain(kind, many, bad):
+            source = "v as aq"
+            for one, other in zip("abcdefghijk"[:many], "bcdefghijk"):
+                told = f"one (select x from u where u.x = {one}q.w and u.x < {other}q.w) = 1" if bad else (
+                    f"exists (select * from u where u.x = {one}q.w and u.x < {other}q.w)")
+                source = f"({source} {kind} join v as {other}q on {told})"
+            return f"select aq.w from {source}"
+        for kind in ("left", "full"):
+            for bad in (False, True):
+                self.compare_texts([chain(kind, many, bad) for many in (1, 2, 3)])
+            sizes = [len(flat(compiled(ASKED, bound(chain(kind, many, False))))) for many in (5, 6, 7)]
+            # Each join more makes the plan as much larger as the one ahead of it did.
+            self.assertLessEqual(sizes[2] - sizes[1], sizes[1] - sizes[0])
+            self.assertLessEqual(sizes[2], 150)
+
+    def test_sides_of_outer_joins_that_may_be_several(self):
+        small, large = "v", "(t join v as e on e.w = t.y)"
+        bad = "(select one (select x from u where x = :p) as k from t) as b"
+        worse = "(v as d left join (select one (select x from u where x < w) as k, w from v) as c on c.w = d.w)"
+        pairs = [(one, other) for one in (small, large, bad, worse) for other in (small, large, bad, worse) if one != other]
+        texts = [f"select 1 as l from {one} {kind} join {other} on exists (select * from u where u.x = :p)"
+                 for one, other in pairs for kind in ("inner", "left", "full")]
+        texts += [f"select k, w from {one} {kind} join {other} on exists (select * from u where u.x = w or u.x = k or u.x = :p)"
+                  for one, other in ((small, bad), (bad, small)) for kind in ("inner", "left", "full")]
+        two = {"u": [(1, "a"), (1, "b")]}
+        bases = [Database(ASKED, rows) for rows in (
+            {}, two, {**two, "v": [(1,), (2,)]}, {"t": [(1, 1, "a")]}, {**two, "t": [(1, 1, "a")]}, {**two, "t": [(1, 1, "a")], "v": [(1,), (2,)]},
+            {"u": [(1, "a"), (0, "b")], "t": [(1, 1, "a")], "v": [(1,), (2,)]}, {"u": [(1, "a")], "t": [(1, 1, "a"), (2, 2, "b")], "v": [(1,)]},
+        )]
+        outcomes = []
+        for text in texts:
+            outcomes += self.compare(bound(text), bases, {"p": 1})
+        self.assertGreater(outcomes.count("several"), 50)
+        self.assertGreater(len(outcomes) - outcomes.count("several"), 50)
 
     def test_flat_plans_are_small(self):
         for text, most in [
