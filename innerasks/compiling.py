@@ -134,22 +134,26 @@ def plan_of_join(schema, supply, source, levels, row):
 
 def plan_of_asking_join(schema, stage, kind, one, other, condition):
     """The plan of a join with questions in its condition: they are asked for all pairs."""
-    columns = one.columns + other.columns
-    if kind == "full":
-        return Keep(plan_of_full_join(schema, stage, one, other, condition), columns)
-    if kind == "left" and not may_fail(other):
-        pairs = fellows(schema, stage, other, condition)
-        return Depend("left", one, Keep(pairs, other.columns), ALWAYS)
-    if kind == "left" and len(other) < len(one):
-        # A Depend does not run its right part if left has no row; but it must be run, for it may be Several.
-        watched = Join("anti", one, Keep(other, ()), NEVER)
-        pairs = fellows(schema, stage, other, condition)
-        return Depend("left", watched, Keep(pairs, other.columns), ALWAYS)
     if kind == "left":
+        return plan_of_left_join(schema, stage, one, other, condition)
+    if kind == "full":
+        plan = plan_of_full_join(schema, stage, one, other, condition)
+    else:
+        plan = fellows(schema, stage, Join("inner", one, other, ALWAYS), condition)
+    return Keep(plan, one.columns + other.columns)
+
+
+def plan_of_left_join(schema, stage, one, other, condition):
+    """The same for a left join."""
+    if may_fail(other) and len(one) <= len(other):
         near, met = stage.supply.several(2)
         pairs = fellows(schema, stage, Join("inner", Number(one, met), other, ALWAYS), condition)
-        return Keep(Join("left", Number(one, near), Keep(pairs, (met,) + other.columns), same(near, met)), columns)
-    return Keep(fellows(schema, stage, Join("inner", one, other, ALWAYS), condition), columns)
+        plan = Join("left", Number(one, near), Keep(pairs, (met,) + other.columns), same(near, met))
+        return Keep(plan, one.columns + other.columns)
+    # A Depend does not run its right part if left has no row; but it must be run where it may be Several.
+    left = Join("anti", one, Keep(other, ()), NEVER) if may_fail(other) else one
+    pairs = fellows(schema, stage, other, condition)
+    return Depend("left", left, Keep(pairs, other.columns), ALWAYS)
 
 
 def fellows(schema, stage, below, condition):
@@ -160,7 +164,7 @@ def fellows(schema, stage, below, condition):
 
 
 def plan_of_full_join(schema, stage, one, other, condition):
-    """The plan of a full join with questions in its condition, with more columns: the smaller side stands in it twice."""
+    """The plan of a full join with questions in its condition, and more columns: the smaller side is in it twice."""
     met, met_too = stage.supply.several(2)
     if len(one) < len(other):
         half = Depend("left", other, Keep(fellows(schema, stage, Number(one, met), condition), (met,)), ALWAYS)
