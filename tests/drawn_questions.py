@@ -29,9 +29,12 @@ def drawn_database(maker, most=3):
 class Drawer:
     """Draws questions as the reader makes them [22]; scopes are the columns that are seen, the nearest select first."""
 
-    def __init__(self, seed):
+    def __init__(self, seed, params=None):
         self.random = random.Random(seed)
         self.count = 0
+        # The parameters that may occur, by kinds; those that occur are noted.
+        self.params = params or {}
+        self.used = set()
 
     def chance(self, part=0.3):
         return self.random.random() < part
@@ -108,6 +111,9 @@ class Drawer:
     def expression(self, scopes, depth, kind, asked):
         if asked is not None and self.chance(0.5):
             return self.aggregate(asked, depth, kind)
+        if kind in self.params and self.chance(0.1):
+            self.used.add(self.params[kind])
+            return ("param", self.params[kind])
         if depth <= 0 or self.chance(0.45):
             return ("value", drawn_value(self.random, kind)) if self.chance(0.15) else self.column(scopes, kind)
         word = self.pick("sum", "case", "coalesce", "one", "one", "one")

@@ -15,7 +15,7 @@ from innerasks.plain import answer
 from innerasks.reader import read_question
 from innerasks.running import run
 from asking import BASE, EMPTY, bound, outcome
-from drawn_questions import Drawer, drawn_database
+from drawn_questions import Drawer, drawn_database, drawn_value
 from plan_kinds import plan_kinds
 from samples import ASKED
 
@@ -245,6 +245,27 @@ class Drawn(Compared):
         self.assertGreater(len(found), 1300)
         self.assertGreater(found.count("several"), 50)
         self.assertGreater(len([rows for rows in found if rows and rows != "several"]), 500)
+
+    def test_questions_with_parameters(self):
+        for seed in range(3000, 3150):
+            drawer = Drawer(seed, {"whole": "p", "text": "q"})
+            question = drawer.question([], 3, drawer.kinds())
+            try:
+                question, _ = bind(ASKED, question)
+            except ValueError:
+                continue
+            maker = random.Random(seed)
+            params = {"p": drawn_value(maker, "whole"), "q": drawn_value(maker, "text")}
+            told = {name: params[name] for name in drawer.used}
+            self.compare(question, [drawn_database(maker) for _ in range(2)], told)
+            for plan in (compiled(ASKED, question), flat(compiled(ASKED, question))):
+                for name in told:
+                    with self.assertRaises(BadParameter) as caught:
+                        run(BASE, plan, params={other: 1 for other in told if other != name})
+                    self.assertEqual(name, caught.exception.word)
+                with self.assertRaises(BadParameter) as caught:
+                    run(BASE, plan, params={**told, "z": 1})
+                self.assertEqual("z", caught.exception.word)
 
     def test_deep_questions(self):
         for seed in range(1000, 1060):
