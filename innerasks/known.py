@@ -21,18 +21,25 @@ class Known:
 
 def reached(known, columns):
     """A dict of the columns that follow from some columns."""
-    found = {column: True for column in columns}
-    waiting = [(froms, column) for needs, froms, column in known.links if are_there(needs, known.never)]
-    while True:
-        left = []
-        for froms, column in waiting:
-            if are_there(froms, found):
-                found[column] = True
-            else:
-                left.append((froms, column))
-        if len(left) == len(waiting):
-            return found
-        waiting = left
+    counting = [(froms, column) for needs, froms, column in known.links if are_there(needs, known.never)]
+    waiting = list(columns) + [column for froms, column in counting if len(froms) == 0]
+    # How many columns each link waits for, and which links wait for a column.
+    missing = [len(froms) for froms, _ in counting]
+    users = {}
+    for index, (froms, _) in enumerate(counting):
+        for column in froms:
+            users.setdefault(column, []).append(index)
+    found = {}
+    while len(waiting) > 0:
+        column = waiting.pop()
+        if column in found:
+            continue
+        found[column] = True
+        for index in users.get(column, []):
+            missing[index] -= 1
+            if missing[index] == 0:
+                waiting.append(counting[index][1])
+    return found
 
 
 def are_there(columns, found):
