@@ -120,6 +120,10 @@ class Plan:
             made = above[depth].remade(parts, {}, {})
         return made
 
+    def remade(self, parts, uses, makes):
+        """The node over other parts, with other numbers for the columns that it uses, and for those that it makes."""
+        raise NotImplementedError("each class of nodes has its own")
+
     def renamed(self, numbers):
         """The plan with other numbers for its columns, free and hidden ones too."""
         parts = [part.renamed(numbers) for part in self._parts]
@@ -146,7 +150,7 @@ class Rows(Plan):
         return self._rows
 
     def remade(self, parts, uses, makes):
-        """The node over other parts, with other numbers for the columns that it uses, and for those that it makes."""
+        """The node over other parts, with other numbers."""
         return Rows(moved(self._columns, makes), self._rows)
 
 
