@@ -2,7 +2,7 @@
 
 from innerasks.failing import may_fail
 from innerasks.forms import ALWAYS, NEVER
-from innerasks.lotplans import First, Group, Number
+from innerasks.lotplans import First, Group, Number, has_order
 from innerasks.pairplans import Depend, Except, Intersect, Join, Union
 from innerasks.plans import Compute, Distinct, Filter, Keep, Scan
 from innerasks.supply import Supply
@@ -23,7 +23,11 @@ class Stage:
 
 def compiled(schema, question):
     """A plan of a bound question."""
-    return plan_asked(schema, Supply(), question, ())
+    plan = plan_asked(schema, Supply(), question, ())
+    # A select from an ordered question has no order of its own, but its plan may be that of the question.
+    if question[0] != "first" and has_order(plan):
+        return Keep(plan, plan.columns)
+    return plan
 
 
 # Questions.

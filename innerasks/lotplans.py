@@ -119,3 +119,8 @@ class First(Plan):
         """The node over other parts, with other numbers."""
         order = [(uses.get(column, column), is_down) for column, is_down in self._order]
         return First(parts[0], order, self._n, moved(self._by, uses))
+
+
+def has_order(plan):
+    """Whether the rows of a plan are told in an order of its own [43]: whether it is a First without by."""
+    return isinstance(plan, First) and len(plan.by) == 0

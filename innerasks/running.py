@@ -2,7 +2,7 @@
 
 from innerasks.bags import combined, lots_of, once, sorted_by
 from innerasks.errors import FreeColumns
-from innerasks.lotplans import First, Group, Number
+from innerasks.lotplans import Group, Number, has_order
 from innerasks.matching import Lots, Seen, rows_of_sides, seen_columns
 from innerasks.pairplans import Depend, Except, Intersect, Join, Union
 from innerasks.parameters import parameters_in, passed
@@ -27,9 +27,7 @@ def run(database, plan, *, params=None):
     check_scans(database.schema, plan)
     told = passed(parameters_of(plan), params)
     rows = rows_of(World(database, told), plan, {})
-    if isinstance(plan, First) and len(plan.by) == 0:
-        return rows
-    return in_order(rows)
+    return rows if has_order(plan) else in_order(rows)
 
 
 def parameters_of(plan):
