@@ -24,7 +24,11 @@ class Marks:
 
 def derived(schema, plan, marks):
     """What is known of a plan."""
-    parts = [derived(schema, part, marks) for part in plan.parts]
+    return derived_over(schema, plan, [derived(schema, part, marks) for part in plan.parts], marks)
+
+
+def derived_over(schema, plan, parts, marks):
+    """What is known of a plan, from what is known of its parts."""
     if isinstance(plan, Rows):
         known = known_of_rows(plan, marks)
     elif isinstance(plan, Scan):
@@ -101,7 +105,7 @@ def leaving_out(known, columns, stays, marks):
 def known_of_compute(plan, below):
     """What is known of a Compute."""
     columns = plan.plan.columns
-    clues = Clues(None, below.never)
+    clues = Clues((), below.never)
     links = []
     solid = []
     for column, tree in plan.made:
@@ -118,7 +122,7 @@ def known_of_compute(plan, below):
 
 def known_of_group(plan, below, marks):
     """What is known of a Group."""
-    clues = Clues(None, below.never)
+    clues = Clues((), below.never)
     solid = []
     for column, tree in plan.made:
         is_end = tree[0] in ("least", "most") and len(plan.by) > 0

@@ -26,10 +26,10 @@ def given(condition, columns, never):
 
 def solid_columns(condition, columns, never):
     """The columns of which a condition cannot be True if they are null."""
-    if True not in truths_possible(Clues(None, never), condition):
+    if True not in truths_possible(Clues((), never), condition):
         return list(columns)
     used = columns_among(condition, columns)
-    return [column for column in used if True not in truths_possible(Clues(column, never), condition)]
+    return [column for column in used if True not in truths_possible(Clues((column,), never), condition)]
 
 
 def columns_among(tree, columns):

@@ -71,7 +71,7 @@ def known_of_left(plan, left, right):
         return never, []
     around = {**left.never, **right.never}
     if plan.kind == "mark":
-        if None not in truths_possible(Clues(None, around), plan.condition):
+        if None not in truths_possible(Clues((), around), plan.condition):
             never[plan.column] = True
         return never, linked_to(left.marks, [plan.column])
     solid, links = given(plan.condition, plan.left.columns + plan.right.columns, around)

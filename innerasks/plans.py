@@ -73,6 +73,11 @@ class Plan:
         return self._free
 
     @property
+    def fields(self):
+        """The arguments of the node in order, parts left out."""
+        return self._fields
+
+    @property
     def trees(self):
         """The expressions and conditions of the node itself, in order; of aggregates what they take."""
         return self._trees

@@ -16,15 +16,15 @@ TRUTHS_OF_NULL = {(True, False): (True,), (False, True): (False,), (True, True):
 
 
 class Clues:
-    """What is known of columns: the one that is null, or None, and a dict of those that never are."""
+    """What is known of columns: those that are null, and a dict of those that never are."""
 
-    def __init__(self, null, never):
-        self.null = null
+    def __init__(self, nulls, never):
+        self.nulls = nulls
         self.never = never
 
     def of_column(self, column):
         """What a column can be."""
-        if column == self.null:
+        if column in self.nulls:
             return NULL
         return SOLID if column in self.never else EITHER
 

@@ -22,11 +22,24 @@ class World:
 
 def run(database, plan, *, params=None):
     """The rows of the answer of a plan."""
+    return rows_told(World(database, checked(database.schema, plan, params)), plan)
+
+
+def checked(schema, plan, params):
+    """The values of the parameters of a plan that can be run; the errors of run, but Several, for any other."""
     if len(plan.free) > 0:
         raise FreeColumns(plan.free)
-    check_scans(database.schema, plan)
-    told = passed(parameters_of(plan), params)
-    rows = rows_of(World(database, told), plan, {})
+    check_scans(schema, plan)
+    return passed(parameters_of(plan), params)
+
+
+def rows_told(world, plan):
+    """The rows of the answer of a plan that is checked."""
+    return in_its_order(plan, rows_of(world, plan, {}))
+
+
+def in_its_order(plan, rows):
+    """The rows of a plan in the order in which its answer tells them."""
     return rows if has_order(plan) else in_order(rows)
 
 
@@ -39,17 +52,24 @@ def parameters_of(plan):
 
 def rows_of(world, plan, known):
     """The rows of a plan; known has the values of the columns of the surroundings."""
+    if isinstance(plan, Depend):
+        return rows_depending(world, plan, known)
+    return rows_over(world, plan, [rows_of(world, part, known) for part in plan.parts], known)
+
+
+def rows_over(world, plan, sides, known):
+    """The rows of a node that is no Depend, from the rows of its parts."""
     if isinstance(plan, Rows):
         return list(plan.rows)
     if isinstance(plan, Scan):
         return world.base[plan.table]
-    if isinstance(plan, Depend):
-        return rows_depending(world, plan, known)
     if isinstance(plan, Join):
-        return rows_joined(world, plan, known)
-    if isinstance(plan, (Union, Except, Intersect)):
-        return rows_combined(world, plan, known)
-    rows = rows_of(world, plan.parts[0], known)
+        return rows_joined(world, plan, sides, known)
+    if isinstance(plan, Union):
+        return combined("union", sides[0], sides[1])
+    if isinstance(plan, (Except, Intersect)):
+        return combined("except" if isinstance(plan, Except) else "intersect", sides[0], sides[1])
+    rows = sides[0]
     if isinstance(plan, Distinct):
         return once(rows)
     if isinstance(plan, Keep):
@@ -72,15 +92,6 @@ def places_of(plan, columns):
     """The places of columns in the rows of a plan."""
     places = {column: place for place, column in enumerate(plan.columns)}
     return [places[column] for column in columns]
-
-
-def rows_combined(world, plan, known):
-    """The rows of a Union, Except or Intersect."""
-    one = rows_of(world, plan.one, known)
-    other = rows_of(world, plan.other, known)
-    if isinstance(plan, Union):
-        return combined("union", one, other)
-    return combined("except" if isinstance(plan, Except) else "intersect", one, other)
 
 
 def rows_looked_at(plan, seen, rows):
@@ -132,13 +143,12 @@ def first_of(rows, n):
 
 # Joins.
 
-def rows_joined(world, plan, known):
-    """The rows of a Join."""
-    left = rows_of(world, plan.left, known)
-    right = rows_of(world, plan.right, known)
+def rows_joined(world, plan, sides, known):
+    """The rows of a Join, from the rows of its parts."""
+    left, right = sides
     lots = Lots(plan, right)
-    sides = [(row, right, lots.near(row)) for row in left]
-    return rows_of_sides(plan, seen_in(world, plan, known), sides, right)
+    pairs = [(row, right, lots.near(row)) for row in left]
+    return rows_of_sides(plan, seen_in(world, plan, known), pairs, right)
 
 
 def rows_depending(world, plan, known):

@@ -27,7 +27,7 @@ BARRED = set(
 )
 NODES = (
     ast.Global, ast.AsyncFunctionDef, ast.Await, ast.AsyncFor, ast.AsyncWith, ast.Import, ast.Div, ast.MatMult,
-    ast.AnnAssign, ast.YieldFrom, ast.Try, ast.With, ast.Match, ast.NamedExpr,
+    ast.AnnAssign, ast.YieldFrom, ast.With, ast.Match, ast.NamedExpr,
 )
 DOUBLE = {"__init__", "__eq__", "__len__", "__contains__", "__getitem__", "__iter__", "__repr__", "__str__"}
 TAKE_LISTS = {"any", "all", "min", "max", "sum", "sorted"}
@@ -143,8 +143,10 @@ class Language(unittest.TestCase):
                 elif isinstance(node, ast.Assign):
                     self.assertIsInstance(node.targets[0], ast.Name)
                     kinds = (ast.Constant, ast.Tuple, ast.Dict, ast.List, ast.Load)
+                    above = {part.name for part in tree.body if isinstance(part, ast.FunctionDef) and part.lineno < node.lineno}
                     for part in ast.walk(node.value):
-                        self.assertIsInstance(part, kinds, (path, node.lineno))
+                        if not isinstance(part, ast.Name) or part.id not in above:
+                            self.assertIsInstance(part, kinds, (path, node.lineno))
                 else:
                     self.assertIsInstance(node, (ast.ImportFrom, ast.FunctionDef, ast.ClassDef), path)
             names = [name for node in tree.body if not isinstance(node, ast.ImportFrom)
@@ -246,6 +248,31 @@ class Language(unittest.TestCase):
                     if name in generators:
                         self.assertIn(id(node), iterated, (path, node.lineno))
 
+    def test_tries(self):
+        errors = {node.name for _, tree in trees() for node in tree.body if isinstance(node, ast.ClassDef)
+                  and any(isinstance(base, ast.Name) and base.id in BUILTINS for base in node.bases)}
+        for path, tree in trees():
+            for node in ast.walk(tree):
+                if isinstance(node, ast.Try):
+                    for handler in node.handlers:
+                        self.assertIsInstance(handler.type, ast.Name, (path, node.lineno))
+                        self.assertIn(handler.type.id, errors, (path, node.lineno))
+                    for part in node.finalbody:
+                        self.assertIsInstance(part, ast.Assign, (path, node.lineno))
+                        simple = (ast.Tuple, ast.Name, ast.Attribute, ast.Load, ast.Store, ast.Assign)
+                        for inner in ast.walk(part):
+                            self.assertIsInstance(inner, simple, (path, node.lineno))
+                    self.assertFalse(any(isinstance(part, ast.Yield) for part in ast.walk(node)), (path, node.lineno))
+
+    def test_tables_of_functions(self):
+        # A function from a table gets a name before it is called.
+        for path, tree in trees():
+            for node in ast.walk(tree):
+                if isinstance(node, ast.Call):
+                    self.assertIsInstance(node.func, (ast.Name, ast.Attribute), (path, node.lineno))
+                if isinstance(node, ast.Attribute) and node.attr in ("__class__", "__name__"):
+                    self.assertIsInstance(node.value, (ast.Name, ast.Attribute), (path, node.lineno))
+
     def test_reversed_and_stars(self):
         for path, tree in trees():
             for node in ast.walk(tree):
@@ -254,13 +281,20 @@ class Language(unittest.TestCase):
                     self.assertIsInstance(part, ast.Call, (path, node.lineno))
                     self.assertIn(part.func.id, ("list", "tuple", "sorted", "range"), (path, node.lineno))
                 if isinstance(node, ast.Starred):
-                    self.assertIsInstance(node.value, ast.Name, (path, node.lineno))
+                    # An attribute off a name, but no property.
+                    is_own = isinstance(node.value, ast.Attribute) and node.value.attr.startswith("_")
+                    held = node.value.value if is_own else node.value
+                    self.assertIsInstance(held, ast.Name, (path, node.lineno))
 
     def test_every_function_of_the_package_is_used(self):
         used = {node.attr if isinstance(node, ast.Attribute) else node.id
                 for _, tree in trees() for node in ast.walk(tree) if isinstance(node, (ast.Attribute, ast.Name))}
-        told = {"read_question", "write_question", "bind", "answer", "run", "compiled", "flat", "facts", "place_of",
-                "has_single_match", "replaced", "first_break", "follows", "least_keys", "behind", "at", "put", "renamed"}
+        told = set(
+            "read_question write_question bind answer run compiled flat facts place_of has_single_match replaced first_break "
+            "follows least_keys behind at put renamed all_names fits laid places all_places follow is_road home road_between "
+            "parted tells_apart links best_ways expanded ask plan_of define prepare drop apply undo redo trial replayed "
+            "write_plan read_plan write_database read_database".split()
+        )
         for name, nodes in functions_by_name().items():
             if not name.startswith("__") and not any(is_property(node) for node in nodes):
                 self.assertIn(name, used | told)
