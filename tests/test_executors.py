@@ -160,8 +160,8 @@ class Counts(unittest.TestCase):
             self.assertEqual((12, 3, 5, made), count(equal(1, 4), "merged", kind))
         # Parts that are no links are looked at for the pairs that meet.
         told = all_of(equal(1, 4), ("<", column(2), column(4)))
-        self.assertEqual((12, 3, 5, 0), count(told, "merged"))
-        self.assertEqual((12, 0, 36, 0), count(told, "nested"))
+        self.assertEqual((12, 3, 5, 1), count(told, "merged"))
+        self.assertEqual((12, 0, 36, 1), count(told, "nested"))
 
     def test_sides_without_rows(self):
         base = Database(ASKED, {"t": [(1, 1, "a"), (2, 1, "a")]})
