@@ -180,7 +180,8 @@ class House:
         word, *told = step
         if word == "apply":
             changes, passed_ones = told
-            self.apply(*changes, params={name: value for name, value in passed_ones})
+            params = {name: value for name, value in passed_ones}
+            self.apply(*changes, params=params)
         elif word == "define":
             self.define(told[0], told[1])
         elif word == "prepare":
