@@ -118,7 +118,7 @@ class Links(unittest.TestCase):
         self.assertEqual([("=", 1, 4)], links(Join("mark", T, U, equal(1, 4), 9)))
         for condition in (ALWAYS, equal(1, 2), equal(4, 4), ("<", column(1), column(4)), ("<>", column(1), column(4)), ("=", column(1), value(1)),
                           ("or", (equal(1, 4),)), ("not", ("not", equal(1, 4))), ("=", ("+", column(1), value(0)), column(4)), equal(1, 50), equal(50, 60),
-                          ("=", ("coalesce", (column(1),)), column(4)), ("null", column(1)), all_of(("or", (equal(1, 4), A)), equal(1, 3))):
+                          ("=", ("coalesce", (column(1),)), column(4)), ("=", column(1), value(4)), ("=", value(1), column(4)), ("is", value(4), value(1)), ("null", column(1)), all_of(("or", (equal(1, 4), A)), equal(1, 3))):
             self.assertEqual([], told(condition), condition)
         self.assertIsInstance(told(ALWAYS), list)
 

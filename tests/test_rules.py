@@ -281,7 +281,8 @@ class AtJoins(Laid):
                     Keep(Filter(left, solid(4)), (1,)), Keep(Filter(left, all_of(("null", column(4)))), (1,)),
                     Keep(Filter(left, ("is", column(4), value(None))), (1,)), Keep(Filter(depend("left"), ("null", column(4))), (1,)),
                     Keep(Filter(join("full"), ("null", column(4))), (1,)), Filter(left, ("null", column(4))),
-                    Keep(Filter(left, ("null", ("coalesce", (column(4),)))), (1,)))
+                    Keep(Filter(left, ("null", ("coalesce", (column(4),)))), (1,)), Keep(Filter(left, ("null", value(4))), (1,)),
+                    Keep(Filter(left, ("not", ("null", column(4)))), (1,)))
 
     def test_mark_semi(self):
         for node in (join, depend):

@@ -27,7 +27,7 @@ TREES = [
 # What is no text of a tree.
 NO_TREES = [
     "", " ", "x", "nul", "Null", "NULL", "None", "True", "truefalse", "nulls", "-", "--1", "+1", "01", "00", "-0", "-01", "1.0", "1_0", "1e3", "0x1", "'", "'a",
-    "a'", "'a'b", "'a''", "'''", "'\t'", "'é'", '"a"', "(", ")", "(1", "1)", "(1))", "((1)", "( 1)", "(1 )", "( )", "(1  2)", "(1,2)", "(1(2))", "(1'a')",
+    "a'", "'a'b", "'a''", "'''", "'\t'", "'é'", '"a"', "(", ")", "(1", "1)", "(1))", "((1)", "( 1)", "(1 )", "( )", "(1  2)", "(1,2)", "(1(2))", "(1'a')", "(1(2)", "('a'(1)", "(1''2)",
     "('a''b'1)", "('a'null)", "(null'a')", "(true1)", "[1]", "{}", "1\t", "\t1", "(1\t2)", "1" * 1001, "-" + "1" * 1001, "\u0663", "'a\u00a0'",
 ]
 NODES = [
@@ -130,14 +130,15 @@ class Plans(unittest.TestCase):
         for text in ["", "\n", " ", "\n\n", "x", "Plan", "plan", "scan 't' (1)", "SCAN 't' (1)", "Scan", "Scan 't'", "Scan 't' (1) ()", " Scan 't' (1)",
                      "  Scan 't' (1)", "Scan  't' (1)", "Scan 't'  (1)", "Scan 't' (1) ", "Scan't' (1)", "Scan 't'(1)", "Scan 't' (1)\r", "\tScan 't' (1)",
                      "Scan t (1)", "Scan 't', (1)", "Plan (1)", "Table 't'", "Several", "Distinct ", "Distinct ()", "Filter", "Keep",
-                     "Keep (1) ()", "First () null", "First () null () ()", "Join 'semi' ('and' ())", "Join 'semi' ('and' ()) null null", "Number 9"]:
+                     "Keep (1) ()", "First () null", "First () null () ()", "Join 'semi' ('and' ())", "Join 'semi' ('and' ()) null null", "Number 9", "Rows ()x()", "Rows ()(()", "Rows ()''()",
+                     "Number 9x()"]:
             self.assertEqual(0, line_of(text), text)
 
     def test_depths(self):
         good = ["Join 'semi' ('and' ()) null", "  Keep (1)", "    Scan 't' (1)", "  Scan 'u' (2)"]
         self.assertIsNone(line_of("\n".join(good)))
         for index, line in enumerate(good):
-            for other in ("  " + line, " " + line, line[1:], line[2:], "   " + line, "", line + " ", line.replace(" (", "  (")):
+            for other in ("xx" + line[2:] if line.startswith("  ") else " " + line, "\t" + line[2:], "  " + line, " " + line, line[1:], line[2:], "   " + line, "", line + " ", line.replace(" (", "  (")):
                 if other != line:
                     told = good[:index] + [other] + good[index + 1:]
                     self.assertEqual(index, line_of("\n".join(told)), told)

@@ -14,6 +14,7 @@ from innerasks.writer import write_question
 from asking import BASE, bound, outcome
 from drawn_questions import Drawer, drawn_database
 from samples import ANYTHING, ASKED
+from test_facts import KEYED
 
 ADULT = read_question("select x, s from t where y is not null")
 NEAR = read_question("select a.x, u.z as k from adult as a join u on a.x = u.x")
@@ -64,6 +65,8 @@ class Constructed(Told):
         for other in (Views(ASKED), Views(ASKED, ("adult", ADULT)), Views(ASKED, ("adult", ADULT), ("far", NEAR)),
                       Views(ASKED, ("adult", ADULT), ("near", read_question("select x, z as k from u"))), "adult", None, ASKED):
             self.assertNotEqual(VIEWS, other)
+        self.assertNotEqual(Views(ASKED), Views(KEYED))
+        self.assertNotEqual(VIEWS, Views(KEYED, ("adult", ADULT), ("near", NEAR)))
         one, other = ("ones", read_question("select x from t")), ("other", read_question("select w from v"))
         self.assertNotEqual(Views(ASKED, one, other), Views(ASKED, other, one))
 
